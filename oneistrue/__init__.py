@@ -1,0 +1,1 @@
+"""Oneistrue: awards on what two sides show."""

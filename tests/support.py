@@ -1,0 +1,239 @@
+"""What the tests share: examples, wrong values, made courts, and plain searches by the definitions."""
+
+import random
+import unittest
+from fractions import Fraction
+
+from oneistrue.errors import CourtError, NotUsable
+
+PAIR = ((1, (0, 1), (1, 1), ((1,), ()), 0), (1, (1, 1), (1, 1), ((0,), ()), 0))
+COPY = ((1, (0, 1), (1, 1), ((1,), (1,)), 0), (1, (1, 1), (1, 1), ((0,), (0,)), 0))
+SEEN = ((1, (0, 1), (1, 1), ((), ()), 0), (1, (1, 1), (1, 1), ((), ()), 1))
+COIN = (
+    (1, (0, 1), (1, 1), ((1, 0), ()), 0),
+    (1, (0, 1), (1, 1), ((0, 1), ()), 0),
+    (1, (3, 1), (1, 1), ((0, 0), ()), 0),
+)
+CHAIN = (
+    (1, (0, 1), (1, 1), ((2,), ()), 0),
+    (1, (3, 1), (1, 1), ((1,), ()), 0),
+    (1, (1, 1), (1, 1), ((0,), ()), 0),
+)
+STEEP = ((1, (0, 1), (2, 1), ((1,), ()), 0), (1, (1, 1), (1, 1), ((0,), ()), 0))
+FLAT = (SEEN[0], (1, (0, 1), (1, 1), ((), ()), 1))
+STEP = (
+    ((3, 1), (1, 1)),
+    (("out", 0, (((0, True, 1), (1, True, 1)),)), ("claimant", (0, 2), (((0, True, 0),),))),
+)
+# Two sights, exhibits of both sides, a tie (cases 1 and 2), unlike factors.
+MIXED = (
+    (2, (1, 2), (1, 3), ((1, 2), (0,)), 5),
+    (1, (-3, 1), (2, 1), ((0, 1), (1,)), 5),
+    (4, (7, 3), (1, 1), ((0, 1), (1,)), 5),
+    (1, (0, 1), (5, 2), ((1, 2), (0,)), 0),
+)
+EXAMPLES = (PAIR, COPY, SEEN, COIN, CHAIN, STEEP, FLAT, MIXED)
+
+# Values of all sorts; those that fit a parameter are sifted out where it is tested.
+ANYTHING = (
+    None, True, False, -1, 0, 1, 2, 10 ** 59, "", "0", "1", (), (0,), (1,), (0, 1), (1, 2), (0, 0), (1, 0),
+    (True,), (False,), (0, True), (True, 1), (1, True), (0, 1, 2), (-1,), (None,), ("0",), ((0, 1),), [], [0], [0, 1],
+    (2, 4), (0, 2), (1, -2), (1, 0), (3, 0), ((0, 1), (1, 1)), [(0, 1), (1, 1)], ((0, 1), (2, 4)), ((0, 1), [1, 1]),
+    ((0, 1), (True, 1)), ((0, 1), None), (((((0,),),),),), PAIR, [PAIR[0]], PAIR[0], COIN,
+)
+WRONG_QUOTIENTS = (
+    None, True, 1, 0, "1/2", "", (), (1,), (1, 2, 3), [1, 2], (2, 4), (0, 2), (-2, 2), (1, 0), (0, 0), (1, -2), (0, -1),
+    (True, 2), (False, 1), (1, True), ("1", 2), (1, "2"), (None, 1), ((1, 2),), ((1,), 2),
+)
+WRONG_NUMBERS = (None, True, False, -1, -(10 ** 59), "1", (), (1,), [1])
+WRONG_POSITIVES = WRONG_NUMBERS + (0,)
+WRONG_INTEGERS = (None, True, False, "1", (), (1,), [1])
+WRONG_SIDES = (None, True, False, -1, 2, "0", (), (0,), [0])
+WRONG_FACTORS = (None, 1, (), (1,), (1, 1, 1), [1, 1], (0, 1), (1, 0), (-1, 1), (True, 1), (1, True), ("1", 1), ((1, 1),))
+WRONG_COURTS = (
+    None, True, 0, "", "1 0/1 1,1 - - 0", (), [], list(PAIR), (PAIR[0], None), PAIR[0], (PAIR[0], list(PAIR[1])),
+    (PAIR[0], COIN[0]), (PAIR[0], SEEN[0]), (PAIR[0], COPY[1]), ((True,) + PAIR[0][1:],), ((0,) + PAIR[0][1:],),
+    (PAIR[0][:4],), (PAIR[0] + (0,),), (PAIR[0][:4] + (False,),), (PAIR[0][:4] + (-1,),),
+    ((1, (2, 2), (1, 1), ((), ()), 0),), ((1, (1, 1), (1, 0), ((), ()), 0),), ((1, (1, 1), (1, 1), ((True,), ()), 0),),
+    ((1, (1, 1), (1, 1), ((), (), ()), 0),), ((1, (1, 1), (1, 1), [(), ()], 0),), ((1, (1, 1), (1, 1), ([], ()), 0),),
+)
+
+
+def wrong_cases(court):
+    return (None, True, False, -1, -len(court), len(court), len(court) + 1, "0", (), (0,), [0], (0, 1))
+
+
+def wrong_exhibits(court, side):
+    many = len(court[0][3][side])
+    return (None, True, False, -1, many, many + 1, "0", (), (0,), [0])
+
+
+def wrong_lots(court):
+    many = len(court)
+    return (
+        None, True, 0, "", "0", [], [0], (many,), (-1,), (0, many), (True,), (False,), ("0",), (None,), (0, 0), ((0,),),
+        (1, 0), (0, True), (0, [1]),
+    )
+
+
+def wrong_tables(court):
+    good = tuple((0, 1) for _ in court)
+    short = [(), good[:-1], good + ((0, 1),), list(good), None, True, 0, "", (0,) * len(court), good[:1] * (len(good) + 1)]
+    return tuple(short) + tuple(good[:-1] + (bad,) for bad in WRONG_QUOTIENTS) + tuple(
+        (bad,) + good[1:] for bad in WRONG_QUOTIENTS
+    )
+
+
+class Case(unittest.TestCase):
+    """A test case that tells True from 1, and tests refusals."""
+
+    def same(self, one, other):
+        self.assertEqual(repr(one), repr(other))
+
+    def raises(self, name, fields, function, *args, **named):
+        """The call raises the error of this name with exactly these fields."""
+        try:
+            result = function(*args, **named)
+        except CourtError as error:
+            self.assertEqual(type(error).__name__, name, (args, named))
+            self.same(vars(error), fields)
+        else:
+            self.fail(f"{function.__name__}{args}{named} returned {result!r}")
+
+    def refuses(self, word, function, *args, **named):
+        self.raises("NotUsable", {"word": word, "at": -1}, function, *args, **named)
+
+    def check_paper(self, word, at, function, *args):
+        self.raises("InvalidPaper", {"word": word, "at": at}, function, *args)
+
+    def check_parameters(self, function, good, wrong):
+        """good: each parameter, in sequence, with a good value; wrong: some of them with wrong values.
+
+        Each wrong value is told by its parameter's name, alone and with wrong ones behind it.
+        """
+        function(*good.values())
+        function(**good)
+        names = list(good)
+        for at, name in enumerate(names):
+            for bad in wrong.get(name, ()):
+                later = {key: wrong[key][0] for key in names[at + 1:] if key in wrong}
+                for rest in ({}, later):
+                    values = {**good, name: bad, **rest}
+                    with self.subTest(function=function.__name__, name=name, values=values):
+                        self.refuses(name, function, *values.values())
+                        self.refuses(name, function, **values)
+
+
+def value(quotient):
+    return Fraction(*quotient)
+
+
+def quotient(number):
+    number = Fraction(number)
+    return (number.numerator, number.denominator)
+
+
+def is_within(one, other):
+    return all(a <= b for a, b in zip(one, other))
+
+
+def tells(court, side, here, there):
+    return court[here][4] == court[there][4] and is_within(court[there][3][side], court[here][3][side])
+
+
+def is_under(court, d, c):
+    return tells(court, 0, d, c) and tells(court, 1, c, d)
+
+
+def order(court):
+    n = len(court)
+    return tuple((d, c) for d in range(n) for c in range(n) if d != c and is_under(court, d, c))
+
+
+def all_lots(size):
+    return sorted(tuple(k for k in range(size) if mask >> k & 1) for mask in range(2 ** size))
+
+
+def is_upper(court, lot):
+    return all(d in lot for d, c in order(court) if c in lot)
+
+
+def is_lower(court, lot):
+    return all(c in lot for d, c in order(court) if d in lot)
+
+
+def uppers(court):
+    pairs = order(court)
+    return [lot for lot in all_lots(len(court)) if all(d in lot for d, c in pairs if c in lot)]
+
+
+def lean(case, award):
+    gap = award - value(case[1])
+    return (case[2][0] if gap >= 0 else case[2][1]) * gap
+
+
+def wrong(court, table):
+    return sum(case[0] * lean(case, a) * (a - value(case[1])) for case, a in zip(court, table))
+
+
+def strain(court, lot, award):
+    return sum((court[k][0] * lean(court[k], award) for k in lot), Fraction(0))
+
+
+def is_rising(court, table):
+    return all(table[d] >= table[c] for d, c in order(court))
+
+
+def components(size, pairs):
+    """The sets that hang together by pairs, found by walking from each number."""
+    found = set()
+    for start in range(size):
+        seen = {start}
+        while True:
+            more = {b for a, b in pairs if a in seen} | {a for a, b in pairs if b in seen}
+            if more <= seen:
+                break
+            seen |= more
+        found.add(tuple(sorted(seen)))
+    return tuple(sorted(found))
+
+
+def made_right(dice):
+    return quotient(Fraction(dice.randint(-6, 6), dice.choice((1, 1, 1, 2, 3))))
+
+
+def made_holding(dice, many, grades):
+    return tuple(dice.randint(0, grades) for _ in range(many))
+
+
+def made_court(dice, size, exhibits=None, sights=None, grades=None):
+    """A court of so many cases with exhibits of both sides, ties and two sights, by the dice."""
+    ours, theirs = exhibits or (dice.randint(0, 2), dice.randint(0, 2))
+    most = grades or dice.choice((1, 1, 2, 3))
+    many = sights or dice.choice((1, 1, 2))
+    court = []
+    for _ in range(size):
+        holdings = (made_holding(dice, ours, most), made_holding(dice, theirs, most))
+        if court and dice.random() < 0.2:
+            holdings = dice.choice(court)[3]
+        factors = dice.choice(((1, 1), (1, 1), (dice.randint(1, 4), dice.randint(1, 4))))
+        weight = dice.choice((1, 1, dice.randint(1, 6)))
+        court.append((weight, made_right(dice), factors, holdings, dice.randrange(many)))
+    return tuple(court)
+
+
+def made_courts(many, least=1, most=5, seed=1):
+    dice = random.Random(seed)
+    return [made_court(dice, dice.randint(least, most)) for _ in range(many)]
+
+
+def made_table(dice, size):
+    return tuple(made_right(dice) for _ in range(size))
+
+
+def is_refused(function, *args):
+    try:
+        function(*args)
+    except NotUsable:
+        return True
+    return False

@@ -1,0 +1,60 @@
+"""[The interface] Names, parameters, and the files in which they are defined."""
+
+import importlib
+import inspect
+
+from tests.support import Case
+
+FUNCTIONS = """
+kinds: is_integer(thing), is_number(thing), is_quotient(thing), is_set(size, thing), is_table(size, thing)
+kinds: is_holding(many, thing)
+quotients: quotient_of(top, bottom), plus(one, other), minus(one, other), times(one, other), over(one, other)
+quotients: is_less(one, other), raised(one, many), total(quotients)
+courtchecker: lets_court(thing), is_court(thing)
+courts: weight_of(court, lot), holding_of(court, side, here), exhibits_of(court, side), rights_of(court)
+courts: mean_right(court), is_even(court), kept(court, lot)
+changes: with_weight(court, here, weight), with_right(court, here, right), with_factors(court, here, factors)
+changes: with_grade(court, side, here, exhibit, grade), with_sight(court, here, sight)
+merging: merged(court), halved(court, here, weight), renamed(court, places), turned(court)
+conditions: is_condition(counts, thing), holds(counts, condition, marks), either(counts, condition, more)
+conditions: both(counts, condition, more)
+folders: lets_folder(thing), cases_of(folder), court_of(folder)
+foldertexts: folder_text(folder), read_folder(text)
+courttexts: court_text(court), read_court(text)
+courtclasses: court_from(text)
+telling: holding_within(one, other), can_tell(court, side, here, there), stories_of(court, side, here)
+telling: tellers_of(court, plea, reply)
+hiding: hides(court, here, there), order_of(court), under_of(court, here), over_of(court, there)
+"""
+
+CLASSES = {
+    ("courtclasses", "Court", "court"): {"having": ["lot"], "turning": []},
+}
+
+
+def listed():
+    """Triples (module, name, parameters) of the functions."""
+    for row in FUNCTIONS.strip().split("\n"):
+        module, rest = row.split(": ")
+        for part in rest.split("), "):
+            name, inside = part.rstrip(")").split("(")
+            yield module, name, inside.split(", ")
+
+
+class InterfaceTest(Case):
+    def test_functions(self):
+        for module, name, parameters in listed():
+            with self.subTest(name=name):
+                function = getattr(importlib.import_module("oneistrue." + module), name)
+                self.assertTrue(inspect.isfunction(function))
+                self.assertEqual(function.__module__, "oneistrue." + module)
+                self.assertEqual(list(inspect.signature(function).parameters), parameters)
+
+    def test_classes(self):
+        for (module, name, parameter), methods in CLASSES.items():
+            kind = getattr(importlib.import_module("oneistrue." + module), name)
+            self.assertEqual(kind.__module__, "oneistrue." + module)
+            self.assertEqual(list(inspect.signature(kind).parameters), [parameter])
+            for method, parameters in methods.items():
+                self.assertIn(method, vars(kind))
+                self.assertEqual(list(inspect.signature(vars(kind)[method]).parameters), ["self"] + parameters)
