@@ -31,9 +31,9 @@ def read_integer(word):
 
 
 def read_quotient(word):
-    top_word, sign, bottom_word = word.partition("/")
+    top_word, _, bottom_word = word.partition("/")
     quotient = (read_integer(top_word), read_number(bottom_word))
-    if sign == "" or not is_quotient(quotient):
+    if not is_quotient(quotient):
         return None
     return quotient
 

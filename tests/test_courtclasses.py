@@ -87,6 +87,7 @@ class CourtTest(Case):
         self.same(both.inner, PAIR + CHAIN)
         self.same((Court(CHAIN) + Court(PAIR)).inner, CHAIN + PAIR)
         self.same((Court(SEEN) + Court(SEEN)).inner, SEEN + SEEN)
+        self.same((Court(PAIR[:1]) + Court(CHAIN[:1])).inner, PAIR[:1] + CHAIN[:1])
         self.same((Court(CHAIN) + Court(PAIR) + Court(PAIR)).inner, CHAIN + PAIR + PAIR)
 
     def test_sum_refusals(self):

@@ -25,10 +25,29 @@ courtclasses: court_from(text)
 telling: holding_within(one, other), can_tell(court, side, here, there), stories_of(court, side, here)
 telling: tellers_of(court, plea, reply)
 hiding: hides(court, here, there), order_of(court), under_of(court, here), over_of(court, there)
+classes: classes_of(court), ties_of(court), closed_pairs(size, pairs), is_order(size, thing)
+lots: is_upper(court, lot), is_lower(court, lot), upper_of(court, lot), lower_of(court, lot), uppers_of(court)
+lots: many_lots(court)
+exhibits: left_out(court, side, exhibit), needless_of(court), struck(court)
+orders: same_order(court, other), parting(court, other), lets_parting(court, other, thing)
+twins: claimant_twin(court), defendant_twin(court), blank_court(size, pairs)
+meetings: meeting(court, here, there), may_meet(court, here, there)
+bundles: bundles_of(court), sights_of(court), joined(court, other)
+leans: wrong_at(court, here, award), lean_at(court, here, award), bend_at(court, here, award, to)
+levels: level_of(court, lot), level_by(court, weights)
+tables: is_rising(court, table), first_fall(court, table), pulls_of(court, table), wrong_of(court, table)
+tables: pull_of(court, table, lot)
+best: best_table(court), least_wrong(court), off_share(court)
+pools: pools_of(court), pool_at(court, here), steps_of(court)
+strains: strain_of(court, lot, stake), smallest_lot(court, stake), largest_lot(court, stake)
+strains: strained_lots(court, stake)
 """
 
 CLASSES = {
     ("courtclasses", "Court", "court"): {"having": ["lot"], "turning": []},
+    ("orderclasses", "Order", "court"): {
+        "lies_in": ["other"], "under": ["here"], "over": ["there"], "lifted": ["lot"], "sunk": ["lot"],
+    },
 }
 
 
