@@ -16,7 +16,7 @@ BUILTINS = set(
     "len range enumerate zip min max sum abs sorted int str bool list tuple dict set isinstance any all"
     " property ValueError iter".split()
 )
-METHODS = set("append pop get join split startswith partition isdigit isascii".split())
+METHODS = set("append pop get join split startswith partition isdigit isascii count index".split())
 EAGER = set("list tuple sorted sum any all min max enumerate zip".split())
 DUNDERS = set("__init__ __len__ __iter__ __contains__ __eq__ __getitem__ __add__ __call__".split())
 BARRED = (

@@ -2,7 +2,7 @@
 
 from oneistrue.courts import rights_of, weight_of
 from oneistrue.levels import level_in, strain_at
-from oneistrue.lots import lot_of, uppers_within
+from oneistrue.lots import lot_of, outside, uppers_within
 from oneistrue.quotients import lowest, on_one_bottom
 from oneistrue.tables import wrong_of
 from oneistrue.usable import every_case
@@ -36,19 +36,27 @@ def part_above(court, lot, stake):
     return lot_of(union, len(court))
 
 
-def best_table(court):
-    awards = {}
+def lots_done(court):
+    """Pairs (lot, level): the lot of all cases cut at its level, then each part, as long as a cut parts it."""
+    done = []
     lots = [every_case(court)]
     while len(lots) > 0:
         lot = lots.pop()
         level = level_in(court, lot)
         above = part_above(court, lot, level)
         if above == lot:
-            for here in lot:
-                awards[here] = level
+            done.append((lot, level))
         else:
             lots.append(above)
-            lots.append(tuple([case for case in lot if case not in above]))
+            lots.append(outside(lot, above))
+    return done
+
+
+def best_table(court):
+    awards = {}
+    for lot, level in lots_done(court):
+        for here in lot:
+            awards[here] = level
     return tuple([awards[case] for case in range(len(court))])
 
 

@@ -46,6 +46,11 @@ def lot_of(mask, size):
     return tuple([here for here in range(size) if mask >> here & 1 == 1])
 
 
+def outside(lot, part):
+    """The cases of lot that are not in the part."""
+    return tuple([here for here in lot if here not in part])
+
+
 def uppers_within(court, lot):
     """The masks of all sets of cases of lot that are upper within lot."""
     masks = [0]

@@ -22,6 +22,18 @@ def on_one_bottom(quotients):
     return [top * (bottom // own) for top, own in quotients], bottom
 
 
+def least_one(quotients):
+    """The least one by value of some quotients, at least one."""
+    tops = on_one_bottom(quotients)[0]
+    return quotients[tops.index(min(tops))]
+
+
+def greatest_one(quotients):
+    """The greatest one by value of some quotients, at least one."""
+    tops = on_one_bottom(quotients)[0]
+    return quotients[tops.index(max(tops))]
+
+
 def quotient_of(top, bottom):
     need(is_integer(top), "top")
     need(is_integer(bottom) and bottom != 0, "bottom")

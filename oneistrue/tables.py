@@ -1,5 +1,6 @@
 """What a table does in a court: its pulls, its wrong, and whether it is rising."""
 
+from oneistrue.errors import Falling
 from oneistrue.hiding import order_of
 from oneistrue.kinds import is_table
 from oneistrue.leans import lean_of, wrong_for
@@ -13,6 +14,13 @@ def fall_in(pairs, table):
     if len(falls) == 0:
         return None
     return falls[0]
+
+
+def need_rising(court, table):
+    """Refuses a table that is not rising."""
+    fall = fall_in(order_of(court), table)
+    if fall is not None:
+        raise Falling(fall[0], fall[1])
 
 
 def is_rising(court, table):

@@ -1,7 +1,7 @@
 """What parameters have to be, and how a function refuses one that is not."""
 
 from oneistrue.errors import NotUsable
-from oneistrue.kinds import is_integer, is_number, is_set
+from oneistrue.kinds import is_holding, is_integer, is_number, is_set
 
 
 def need(is_stated, word):
@@ -29,3 +29,7 @@ def is_lot(court, thing):
 
 def is_exhibit(court, side, thing):
     return is_number(thing) and thing < len(court[0][3][side])
+
+
+def is_showing(court, side, thing):
+    return is_holding(len(court[0][3][side]), thing)

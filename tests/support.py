@@ -32,6 +32,9 @@ MIXED = (
     (4, (7, 3), (1, 1), ((0, 1), (1,)), 5),
     (1, (0, 1), (5, 2), ((1, 2), (0,)), 0),
 )
+FOUR = SEEN[:1] + SEEN[:1] + 2 * ((1, (1, 1), (1, 1), ((), ()), 0),)
+ROUND = ((0, 2, (1, 4)), (0, 3, (1, 4)), (1, 2, (1, 4)), (1, 3, (1, 4)))
+HIGH = ((1, (1, 1), (2, 1), ((1,), ()), 0), (1, (4, 1), (1, 1), ((0,), ()), 0))
 EXAMPLES = (PAIR, COPY, SEEN, COIN, CHAIN, STEEP, FLAT, MIXED)
 
 # Values of all sorts; those that fit a parameter are sifted out where it is tested.
@@ -82,6 +85,22 @@ def wrong_tables(court):
     return tuple(short) + tuple(good[:-1] + (bad,) for bad in WRONG_QUOTIENTS) + tuple(
         (bad,) + good[1:] for bad in WRONG_QUOTIENTS
     )
+
+
+def altered(dealing):
+    """The dealing with one amount, one pair or one form changed, and other values that are no dealing of its court."""
+    wrong = [None, True, 0, "", "()", list(dealing), dealing + ((0, 0, (1, 1)),), dealing + (None,), (dealing,)]
+    if not dealing:
+        return tuple(wrong)
+    d, c, amount = dealing[0]
+    wrong += [(), dealing[1:], dealing + dealing, dealing[:1] + dealing, ([d, c, amount],) + dealing[1:]]
+    for bad in (
+        (d, c), (d, c, amount, amount), (c, d, amount), (d, c, (0, 1)), (d, c, (-1, 1)), (d, c, list(amount)), (bool(d), c, amount),
+        (d, c, (2 * amount[0], 2 * amount[1])), (d, c, quotient(value(amount) * 2)), (d, c, quotient(value(amount) / 2)),
+    ):
+        if repr(bad) != repr(dealing[0]):
+            wrong.append((bad,) + dealing[1:])
+    return tuple(wrong)
 
 
 class Case(unittest.TestCase):
@@ -227,8 +246,114 @@ def made_courts(many, least=1, most=5, seed=1):
     return [made_court(dice, dice.randint(least, most)) for _ in range(many)]
 
 
+def crowded_courts(many, least=2, most=6, seed=1):
+    """Courts in which many cases share a pool, so that most have several dealings."""
+    dice = random.Random(seed)
+    sides = ((1, 0), (0, 1), (0, 0), (2, 0), (1, 1))
+    return [
+        made_court(dice, dice.randint(least, most), exhibits=dice.choice(sides), sights=1, grades=1) for _ in range(many)
+    ]
+
+
 def made_table(dice, size):
     return tuple(made_right(dice) for _ in range(size))
+
+
+def rising_table(dice, court, values=None):
+    """A rising table with awards of these values, by the dice."""
+    awards = [dice.choice(values) if values else made_right(dice) for _ in court]
+    return tuple(
+        max([awards[here]] + [awards[c] for d, c in order(court) if d == here], key=value) for here in range(len(court))
+    )
+
+
+def all_alike(seed, size=8):
+    dice = random.Random(seed)
+    return tuple(
+        (dice.randint(1, 9), quotient(Fraction(dice.randint(-9, 9), dice.randint(1, 4))),
+         (dice.randint(1, 5), dice.randint(1, 5)), ((1,), (2,)), 3) for _ in range(size)
+    )
+
+
+def unlike(seed, size=8):
+    """No case hides under another one: the desk sees each."""
+    return tuple(case[:4] + (at,) for at, case in enumerate(all_alike(seed, size)))
+
+
+def chain(seed, size=8):
+    """Each case hides under all behind it."""
+    return tuple(case[:3] + (((size - at,), (2,)), 0) for at, case in enumerate(all_alike(seed, size)))
+
+
+def level(court, lot):
+    """The level by halving the span between the right awards, then by the straight line through it."""
+    rights = sorted(value(court[k][1]) for k in lot)
+    for low, high in zip(rights, rights[1:] + rights[-1:]):
+        if strain(court, lot, low) <= 0 <= strain(court, lot, high):
+            first, last = strain(court, lot, low), strain(court, lot, high)
+            return low if first == last else low - first * (high - low) / (last - first)
+    raise AssertionError(lot)
+
+
+def pulls(court, awards):
+    return [case[0] * lean(case, award) for case, award in zip(court, awards)]
+
+
+def is_dealing(court, table, thing):
+    """Whether thing, of the form of a dealing, is one of the rising table."""
+    awards = [value(award) for award in table]
+    pairs = [triple[:2] for triple in thing]
+    if pairs != sorted(set(pairs)) or not all(is_under(court, d, c) and d != c and awards[d] == awards[c] for d, c in pairs):
+        return False
+    if not all(value(amount) > 0 for _, _, amount in thing):
+        return False
+    for t, pull in enumerate(pulls(court, awards)):
+        given = sum(value(amount) for d, _, amount in thing if d == t)
+        taken = sum(value(amount) for _, c, amount in thing if c == t)
+        if given != max(pull, 0) or taken != max(-pull, 0):
+            return False
+    return True
+
+
+def edges(court, best):
+    """The pairs that may be disputes of a dealing of the best table."""
+    awards = [value(award) for award in best]
+    own = pulls(court, awards)
+    return [(d, c) for d, c in order(court) if awards[d] == awards[c] and own[d] > 0 > own[c]]
+
+
+def corners(court, best):
+    """All dealings that are no mixture of others, as dicts: those whose disputes have no ring."""
+    own = pulls(court, [value(award) for award in best])
+    found = []
+    pairs = edges(court, best)
+    for mask in range(2 ** len(pairs)):
+        chosen = [pair for at, pair in enumerate(pairs) if mask >> at & 1]
+        amounts = solved(chosen, [abs(pull) for pull in own])
+        if amounts is not None and amounts not in found:
+            found.append(amounts)
+    return found
+
+
+def solved(pairs, sums):
+    """Amounts above 0 for just these pairs, without a ring, by which each case comes to its sum; None if there are none."""
+    rest, amounts, left = list(sums), {}, list(pairs)
+    while left:
+        ends = [k for k in range(len(rest)) if sum(k in pair for pair in left) == 1]
+        if not ends:
+            return None
+        pair = [pair for pair in left if ends[0] in pair][0]
+        amounts[pair] = rest[ends[0]]
+        for k in pair:
+            rest[k] -= amounts[pair]
+        left.remove(pair)
+    if any(rest) or any(amount <= 0 for amount in amounts.values()):
+        return None
+    return amounts
+
+
+def as_dealing(amounts):
+    return tuple((d, c, quotient(amounts[d, c])) for d, c in sorted(amounts) if amounts[d, c])
 
 
 def is_refused(function, *args):

@@ -16,30 +16,13 @@ from oneistrue.tables import pulls_of
 from oneistrue.twins import claimant_twin, defendant_twin
 from tests import support
 from tests.support import (
-    CHAIN, COIN, COPY, EXAMPLES, MIXED, PAIR, SEEN, WRONG_QUOTIENTS, Case, all_lots, components, made_courts, quotient, value,
-    wrong_cases, wrong_lots,
+    CHAIN, COIN, COPY, EXAMPLES, MIXED, PAIR, SEEN, WRONG_QUOTIENTS, Case, all_alike, all_lots, chain, components, level,
+    made_courts, quotient, unlike, value, wrong_cases, wrong_lots,
 )
 from tests.test_leans import great_courts
 
 COURTS = EXAMPLES + tuple(made_courts(120, 1, 6, seed=61)) + tuple(made_courts(12, 7, 8, seed=62))
 STAKES = ((0, 1), (1, 2), (-3, 1), (7, 3), (2, 1), (1, 1), (-1, 1), (100, 1), (-100, 1))
-
-
-def all_alike(seed):
-    dice = random.Random(seed)
-    return tuple(
-        (dice.randint(1, 9), quotient(Fraction(dice.randint(-9, 9), dice.randint(1, 4))),
-         (dice.randint(1, 5), dice.randint(1, 5)), ((1,), (2,)), 3) for _ in range(8)
-    )
-
-
-def unlike(seed):
-    return tuple(case[:4] + (at,) for at, case in enumerate(all_alike(seed)))
-
-
-def chain(seed):
-    """A court of eight in which each case hides under all behind it."""
-    return tuple(case[:3] + (((8 - at,), (2,)), 0) for at, case in enumerate(all_alike(seed)))
 
 
 def best_of_chain(court):
@@ -51,16 +34,6 @@ def best_of_chain(court):
             last = blocks.pop()
             blocks[-1] = blocks[-1] + last
     return tuple(quotient(level(court, block)) for block in blocks for _ in block)
-
-
-def level(court, lot):
-    """The level by halving the span between the right awards, then by the straight line through it."""
-    rights = sorted(value(court[k][1]) for k in lot)
-    for low, high in zip(rights, rights[1:] + rights[-1:]):
-        if support.strain(court, lot, low) <= 0 <= support.strain(court, lot, high):
-            first, last = support.strain(court, lot, low), support.strain(court, lot, high)
-            return low if first == last else low - first * (high - low) / (last - first)
-    raise AssertionError(lot)
 
 
 def best_by_lots(court):

@@ -41,12 +41,32 @@ best: best_table(court), least_wrong(court), off_share(court)
 pools: pools_of(court), pool_at(court, here), steps_of(court)
 strains: strain_of(court, lot, stake), smallest_lot(court, stake), largest_lot(court, stake)
 strains: strained_lots(court, stake)
+cuts: cut_lot(court, lot, stake), cut_all(court, stakes), cut_down(court)
+maxmins: common_level(court, upper, lower), best_lots(court, here), bottom_award(court), top_award(court)
+limited: best_between(court, least, most), shifted(court, by), scaled(court, by)
+dealchecker: lets_dealing(court, table, thing), is_dealing(court, thing)
+dealing: dealing_of(court), deal_out(court, table)
+forests: ring_of(court, dealing), forest_of(court, dealing)
+disputes: least_deal(court, here, there), greatest_deal(court, here, there), open_disputes(court)
+disputes: sure_disputes(court), is_only(court)
+mixes: mixed(court, dealing, more, part), dealing_with(court, here, there, amount)
+prices: price_of(court, table), price_parts(court, dealing, table), dispute_wrongs(court, dealing)
+tablepapers: table_paper(court, table), lets_table(court, table, thing)
+measures: power_wrong(court, table, many), power_parts(court, dealing, table, many)
+carried: givers_of(court), takers_of(court), hung_lots(court, dealing), merged_dealing(court, dealing)
+carried: turned_dealing(court, dealing)
+bounds: low_award(court, table, sight, shown, counter), high_award(court, table, sight, shown, counter)
+bounds: is_bounded(court, table, sight, shown, counter, award)
 """
 
 CLASSES = {
-    ("courtclasses", "Court", "court"): {"having": ["lot"], "turning": []},
-    ("orderclasses", "Order", "court"): {
+    ("courtclasses", "Court", ("court",)): {"having": ["lot"], "turning": []},
+    ("orderclasses", "Order", ("court",)): {
         "lies_in": ["other"], "under": ["here"], "over": ["there"], "lifted": ["lot"], "sunk": ["lot"],
+    },
+    ("tableclasses", "Table", ("court", "table")): {
+        "at_most": ["other"], "moved": ["lot", "by"], "least_of": ["other"], "greatest_of": ["other"],
+        "cut_off": ["least", "most"],
     },
 }
 
@@ -70,10 +90,10 @@ class InterfaceTest(Case):
                 self.assertEqual(list(inspect.signature(function).parameters), parameters)
 
     def test_classes(self):
-        for (module, name, parameter), methods in CLASSES.items():
+        for (module, name, made_of), methods in CLASSES.items():
             kind = getattr(importlib.import_module("oneistrue." + module), name)
             self.assertEqual(kind.__module__, "oneistrue." + module)
-            self.assertEqual(list(inspect.signature(kind).parameters), [parameter])
+            self.assertEqual(list(inspect.signature(kind).parameters), list(made_of))
             for method, parameters in methods.items():
                 self.assertIn(method, vars(kind))
                 self.assertEqual(list(inspect.signature(vars(kind)[method]).parameters), ["self"] + parameters)
