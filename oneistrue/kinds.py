@@ -24,9 +24,11 @@ def is_tuple_of(size, thing):
 
 
 def is_quotient(thing):
-    if not is_tuple_of(2, thing) or not is_integer(thing[0]) or not is_positive(thing[1]):
+    # As each calculation asks this, it is told with few calls.
+    if not isinstance(thing, tuple) or len(thing) != 2:
         return False
-    return gcd(thing[0], thing[1]) == 1
+    top, bottom = thing
+    return is_integer(top) and is_integer(bottom) and bottom >= 1 and gcd(top, bottom) == 1
 
 
 def is_numbers(thing):

@@ -6,7 +6,10 @@ from oneistrue.usable import is_case, is_side, need
 
 def is_within(one, other):
     """Whether one holding is within another one, unchecked."""
-    return all([grade <= bound for grade, bound in zip(one, other)])
+    for grade, bound in zip(one, other):
+        if grade > bound:
+            return False
+    return True
 
 
 def tells(court, side, here, there):

@@ -362,3 +362,127 @@ def is_refused(function, *args):
     except NotUsable:
         return True
     return False
+
+
+def tellers(court, plea, reply):
+    return [here for here in range(len(court)) if tells(court, 0, here, plea) and tells(court, 1, here, reply)]
+
+
+def stories(court, side, here):
+    return [story for story in range(len(court)) if tells(court, side, here, story)]
+
+
+def tellable(court):
+    """All pairs of stories that can be told."""
+    size = range(len(court))
+    return [(plea, reply) for plea in size for reply in size if tellers(court, plea, reply)]
+
+
+def certain(size, story):
+    return tuple((1, 1) if spot == story else (0, 1) for spot in range(size))
+
+
+def made_row(dice, court, side, here):
+    """A row of the side in the case, by the dice: often for certain, and often true."""
+    told = stories(court, side, here)
+    if dice.random() < 0.5:
+        return certain(len(court), dice.choice(told + [here]))
+    weights = {story: dice.randint(0, 3) for story in told}
+    weights[here] += 1
+    return tuple(quotient(Fraction(weights.get(spot, 0), sum(weights.values()))) for spot in range(len(court)))
+
+
+def made_hearing(dice, court):
+    """Any hearing of the court, by the dice."""
+    size = range(len(court))
+    rights = [case[1] for case in court]
+    pleas = tuple(made_row(dice, court, 0, here) for here in size)
+    replies = tuple(made_row(dice, court, 1, here) for here in size)
+    awards = tuple(
+        tuple(dice.choice(rights + [made_right(dice)]) if tellers(court, plea, reply) else None for reply in size)
+        for plea in size
+    )
+    return pleas, replies, awards
+
+
+def with_award(hearing, plea, reply, award):
+    """The hearing with this award of the pair."""
+    rows = [list(row) for row in hearing[2]]
+    rows[plea][reply] = award
+    return hearing[:2] + (tuple(map(tuple, rows)),)
+
+
+def with_row(hearing, side, here, row):
+    rows = list(hearing[side])
+    rows[here] = row
+    return hearing[:side] + (tuple(rows),) + hearing[side + 1:]
+
+
+def mean(court, hearing, here, pleas=None, replies=None):
+    """The mean award in the case; other rows than those of the hearing may be told."""
+    pleas, replies = pleas or hearing[0][here], replies or hearing[1][here]
+    size = range(len(court))
+    return sum((
+        value(pleas[plea]) * value(replies[reply]) * value(hearing[2][plea][reply])
+        for plea in size for reply in size if pleas[plea][0] and replies[reply][0]
+    ), Fraction(0))
+
+
+def mean_telling(court, hearing, side, here, story):
+    row = certain(len(court), story)
+    return mean(court, hearing, here, row, None) if side == 0 else mean(court, hearing, here, None, row)
+
+
+def pair_weights(court, hearing, plea, reply):
+    return [case[0] * value(hearing[0][t][plea]) * value(hearing[1][t][reply]) for t, case in enumerate(court)]
+
+
+def lies(hearing, side, here):
+    return any(chance[0] > 0 and story != here for story, chance in enumerate(hearing[side][here]))
+
+
+def hearing_fault(court, hearing):
+    """What [59] tells of a hearing: the first pair (word, at) that applies, or None."""
+    size = range(len(court))
+    for t in size:
+        for side in (0, 1):
+            means = [mean_telling(court, hearing, side, t, story) for story in stories(court, side, t)]
+            own = mean(court, hearing, t)
+            if (max(means) > own) if side == 0 else (min(means) < own):
+                return "gain", (t, side)
+    for plea, reply in tellable(court):
+        award, weights = value(hearing[2][plea][reply]), pair_weights(court, hearing, plea, reply)
+        rights = [value(court[t][1]) for t in tellers(court, plea, reply)]
+        if any(weights):
+            if sum(weight * lean(case, award) for weight, case in zip(weights, court)) != 0:
+                return "belief", (plea, reply)
+        elif not min(rights) <= award <= max(rights):
+            return "belief", (plea, reply)
+    for t in size:
+        award, right = value(hearing[2][t][t]), value(court[t][1])
+        if (lies(hearing, 0, t) and award < right) or (lies(hearing, 1, t) and award > right):
+            return "agreed", t
+    for t in size:
+        if lies(hearing, 0, t) and lies(hearing, 1, t):
+            return "liars", t
+    return None
+
+
+def dealings_of(court, best):
+    """Some dealings of the court: a few corners, and mixtures of two or of all of them."""
+    found = corners(court, best)[:5]
+    mixes = [{pair: sum(one.get(pair, 0) for one in found) / len(found) for one in found for pair in one}]
+    for one, other in zip(found, found[1:]):
+        mixes.append({pair: (one.get(pair, 0) + 2 * other.get(pair, 0)) / 3 for pair in list(one) + list(other)})
+    return sorted({as_dealing(amounts) for amounts in found + mixes})
+
+
+def turned_round(court, hearing):
+    """The court and the hearing with both sides changed for each other, and minus each award."""
+    def less(award):
+        return None if award is None else (-award[0], award[1])
+
+    cases = tuple((w, less(right), factors[::-1], holdings[::-1], sight) for w, right, factors, holdings, sight in court)
+    size = range(len(court))
+    awards = tuple(tuple(less(hearing[2][reply][plea]) for reply in size) for plea in size)
+    return cases, (hearing[1], hearing[0], awards)

@@ -12,7 +12,7 @@ from tests.support import (
 )
 
 FAMILIES = (all_alike(11), unlike(11), chain(11))
-COURTS = EXAMPLES + (FOUR,) + FAMILIES + tuple(made_courts(50, 1, 8, seed=141)) + tuple(crowded_courts(20, 2, 8, seed=142))
+COURTS = EXAMPLES + (FOUR,) + FAMILIES + tuple(made_courts(40, 1, 8, seed=141)) + tuple(crowded_courts(15, 2, 8, seed=142))
 
 
 def wrong_showings(many):
@@ -52,7 +52,7 @@ class BoundsTest(Case):
             sights = sorted({case[4] for case in court})[:3] + [7, 10 ** 6]
             for table in (best_table(court), rising_table(dice, court)):
                 places = product(sights, showings(dice, court, 0), showings(dice, court, 1))
-                for sight, shown, counter in list(places)[:60]:
+                for sight, shown, counter in dice.sample(list(places), 24):
                     low, high = bounds(court, table, sight, shown, counter)
                     self.same(low_award(court, table, sight, shown, counter), low if low is None else quotient(low))
                     self.same(high_award(court, table, sight, shown, counter), high if high is None else quotient(high))

@@ -19,7 +19,7 @@ from tests.support import (
 )
 
 FAMILIES = tuple(make(seed) for seed in (3, 4) for make in (all_alike, unlike, chain))
-COURTS = EXAMPLES + (FOUR, HIGH) + FAMILIES + tuple(made_courts(60, 1, 8, seed=101)) + tuple(crowded_courts(60, 2, 8, seed=102))
+COURTS = EXAMPLES + (FOUR, HIGH) + FAMILIES + tuple(made_courts(45, 1, 8, seed=101)) + tuple(crowded_courts(45, 2, 8, seed=102))
 DEALT = ((0, 1, (1, 2)),)
 HALVES = ((1, 2), (1, 2))
 # Cases 0 and 1 give 1 / 2 each, 2 and 3 take as much; 0 hides under 2 and 3, 1 under 3 alone, and 4 is apart.
@@ -280,22 +280,13 @@ def has_ring(size, pairs):
     return len(pairs) > size - len(support.components(size, pairs))
 
 
-def dealings_of(court):
-    """Some dealings: corners, and mixtures of two or of all of them."""
-    found = support.corners(court, best_table(court))[:6]
-    mixes = [{pair: sum(one.get(pair, 0) for one in found) / len(found) for one in found for pair in one}]
-    for one, other in zip(found, found[1:]):
-        mixes.append({pair: (one.get(pair, 0) + 2 * other.get(pair, 0)) / 3 for pair in list(one) + list(other)})
-    return [support.as_dealing(amounts) for amounts in found + mixes]
-
-
 class ForestsTest(Case):
     def test_rings_and_forests(self):
         rings = []
         for court in COURTS:
             if len(support.edges(court, best_table(court))) > 9:
                 continue
-            for dealing in dealings_of(court):
+            for dealing in support.dealings_of(court, best_table(court)):
                 self.assertTrue(support.is_dealing(court, best_table(court), dealing))
                 pairs = [triple[:2] for triple in dealing]
                 ring = ring_of(court, dealing)

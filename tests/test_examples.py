@@ -125,6 +125,28 @@ EXAMPLES = """
     (((0, 2), (1, 3)), ((0, 1, (1, 1)),))
     >>> low_award(PAIR, ((1, 1), (0, 1)), 0, (2,), ()), high_award(PAIR, ((1, 1), (0, 1)), 0, (2,), ())
     ((1, 1), None)
+    >>> from oneistrue.plans import replies_of
+    >>> replies_of(COIN, ((0, 2, (1, 1)), (1, 2, (1, 1))))
+    (((1, 1), (0, 1), (0, 1)), ((0, 1), (1, 1), (0, 1)), ((1, 2), (1, 2), (0, 1)))
+    >>> DEALT = ((0, 1, (1, 2)),)
+    >>> told_award(PAIR, DEALT, 0, 1)
+    (0, 1)
+    >>> SAID = hearing_of(PAIR, DEALT)
+    >>> SAID[2]
+    (((0, 1), (0, 1)), ((1, 2), (1, 1)))
+    >>> belief_of(PAIR, SAID, 1, 0), belief_of(PAIR, SAID, 0, 1)
+    (((1, 2), (1, 2)), ((1, 1), (0, 1)))
+    >>> lets_hearing(PAIR, SAID)
+    ((1, 2), (1, 2))
+    >>> lets_hearing(PAIR, (SAID[0], SAID[1], (((0, 1), (0, 1)), ((1, 2), (0, 1)))))
+    InvalidPaper: ("gain", (0, 1))
+    >>> shown_mean(PAIR, DEALT, 0, 0, (0,)), shown_mean(PAIR, DEALT, 1, 1, ())
+    ((0, 1), (1, 1))
+    >>> Hearing(PAIR, SAID).swapped()(0, 1), len(Hearing(PAIR, SAID))
+    ((-1, 2), 1)
+    >>> from oneistrue.unseen import unseen_worth
+    >>> unseen_worth((((3, 1), (0, 1)), ((1, 1), (2, 1))))
+    ((3, 2), (1, 4), (1, 2))
 """
 
 
@@ -157,7 +179,7 @@ class ExamplesTest(Case):
             if not row.startswith(">>> "):
                 continue
             source = row.removeprefix(">>> ")
-            if re.match(r"[\w, ]+ = ", source):
+            if re.match(r"[\w, ]+ = |from ", source):
                 exec(source, names)
                 continue
             with self.subTest(source=source):

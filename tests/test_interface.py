@@ -57,6 +57,20 @@ carried: givers_of(court), takers_of(court), hung_lots(court, dealing), merged_d
 carried: turned_dealing(court, dealing)
 bounds: low_award(court, table, sight, shown, counter), high_award(court, table, sight, shown, counter)
 bounds: is_bounded(court, table, sight, shown, counter, award)
+plans: pleas_of(court, dealing), replies_of(court, dealing)
+hearings: told_award(court, dealing, plea, reply), hearing_of(court, dealing)
+hearingkinds: is_row(court, side, here, thing), is_hearing(court, thing)
+outcomes: pair_weights(court, hearing, plea, reply), mean_award(court, hearing, here), table_from(court, hearing)
+outcomes: spread_of(court, hearing, here)
+beliefs: belief_of(court, hearing, plea, reply)
+gains: best_mean(court, hearing, side, here), gain_of(court, hearing, side, here), first_gain(court, hearing)
+hearingchecker: lets_hearing(court, thing)
+back: dealing_back(court, hearing)
+lies: lies_of(court, hearing), idle_lies(court, hearing), lie_share(court, hearing)
+saddles: is_saddle(court, hearing, here, plea, reply), first_worth(court, hearing, side, here)
+saddles: first_open(court, hearing)
+showings: shown_award(court, dealing, sight, plea, counter), shown_mean(court, dealing, here, side, shown)
+unseen: unseen_worth(rows)
 """
 
 CLASSES = {
@@ -67,6 +81,12 @@ CLASSES = {
     ("tableclasses", "Table", ("court", "table")): {
         "at_most": ["other"], "moved": ["lot", "by"], "least_of": ["other"], "greatest_of": ["other"],
         "cut_off": ["least", "most"],
+    },
+    ("dealclasses", "Deal", ("court", "dealing")): {
+        "__call__": ["here", "there"], "__add__": ["other"], "out_of": ["here"], "into": ["there"], "woods": [],
+    },
+    ("hearingclasses", "Hearing", ("court", "hearing")): {
+        "__call__": ["plea", "reply"], "mean": ["here"], "belief": ["plea", "reply"], "swapped": [],
     },
 }
 

@@ -18,7 +18,7 @@ from tests.support import (
 )
 
 FAMILIES = (all_alike(8), unlike(8), chain(8))
-COURTS = EXAMPLES + (FOUR, HIGH) + FAMILIES + tuple(made_courts(40, 1, 7, seed=121)) + tuple(crowded_courts(40, 2, 7, seed=122))
+COURTS = EXAMPLES + (FOUR, HIGH) + FAMILIES + tuple(made_courts(25, 1, 7, seed=121)) + tuple(crowded_courts(25, 2, 7, seed=122))
 # All rights are above 0.
 ABOVE = tuple(shifted(court, (20, 3)) for court in COURTS)
 WRONG_POWERS = (None, True, False, 0, 1, 5, -2, "2", (2,), [2], (2, 1))

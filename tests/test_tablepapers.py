@@ -49,11 +49,11 @@ class PapersTest(Case):
         self.assertEqual(words, {"falls", "dealt", "raise", "lower"})
 
     def test_lots_by_definition(self):
-        for court in COURTS[:40]:
+        for court in COURTS[::3]:
             for table in self.tables(court):
                 awards = [value(award) for award in table]
                 pulls = support.pulls(court, awards)
-                for lot in all_lots(len(court))[:40]:
+                for lot in all_lots(len(court))[:32]:
                     for word, moves in (("raise", raises), ("lower", lowers)):
                         if not support.is_rising(court, awards):
                             self.check_paper("falls", 0, lets_table, court, table, (word, lot))
