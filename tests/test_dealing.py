@@ -216,7 +216,8 @@ class DealingTest(Case):
         grades = [tuple(int(k != at and k + 1 != at) for at in range(size)) for k in range(size)]
         gives = [(1, (0, 1), (1, 1), (tuple(1 - g for g in row), ()), 0) for row in grades]
         takes = [(1, (1, 1), (1, 1), (tuple(int(k == at) for at in range(size)), ()), 0) for k in range(size)]
-        for court in (tuple(gives + takes), tuple(takes + gives), tuple(takes[::-1] + gives[::-1])):
+        # With the takers turned round each giver but the last one comes to the taker of the next one first.
+        for court in (tuple(gives + takes), tuple(takes + gives), tuple(gives + takes[::-1]), tuple(takes[::-1] + gives)):
             self.assertEqual(set(best_table(court)), {(1, 2)})
             dealing = dealing_of(court)
             self.assertTrue(support.is_dealing(court, best_table(court), dealing))
