@@ -17,6 +17,7 @@ BUILTINS = set(
     " property ValueError iter".split()
 )
 METHODS = set("append pop get join split startswith partition isdigit isascii count index".split())
+CHANGING = set("append clear extend insert pop remove reverse sort update setdefault".split())
 EAGER = set("list tuple sorted sum any all min max enumerate zip".split())
 DUNDERS = set("__init__ __len__ __iter__ __contains__ __eq__ __getitem__ __add__ __call__".split())
 BARRED = (
@@ -100,6 +101,7 @@ def check_function(path, node, imports, classes):
     if len(inner) > 1:
         tell(path, node, "a nested function")
     check_comprehensions(path, node)
+    check_loops(path, node)
 
 
 def stores(nodes):
@@ -144,6 +146,64 @@ def check_call(path, node, parent, own):
         tell(path, node, "a set")
     if name in own["functions"] and len(node.args) != own["functions"][name]:
         tell(path, node, f"{name} takes {own['functions'][name]}")
+
+
+def sources_of(node):
+    """The names of the very lists that the value may be: not of copies, slices or other results."""
+    if isinstance(node, ast.IfExp):
+        return sources_of(node.body) | sources_of(node.orelse)
+    if isinstance(node, ast.BoolOp):
+        return {name for part in node.values for name in sources_of(part)}
+    if isinstance(node, (ast.Name, ast.Attribute)):
+        return {ast.unparse(node)}
+    return set()
+
+
+def walked_names(node):
+    """The names of the lists that a loop goes over, also through enumerate and zip."""
+    if isinstance(node, ast.Call) and isinstance(node.func, ast.Name) and node.func.id in ("enumerate", "zip"):
+        return {name for part in node.args for name in walked_names(part)}
+    return sources_of(node)
+
+
+def groups_in(function):
+    """For each name all names that an assignment somewhere in the function may give to the same list."""
+    groups = {}
+    for node in ast.walk(function):
+        if isinstance(node, ast.Assign):
+            for target in node.targets:
+                pairs = [(target, node.value)]
+                if isinstance(target, ast.Tuple) and isinstance(node.value, ast.Tuple):
+                    pairs = list(zip(target.elts, node.value.elts))
+                for one, other in pairs:
+                    names = {ast.unparse(one)} | sources_of(other)
+                    whole = set(names).union(*[groups.get(name, set()) for name in names])
+                    for name in whole:
+                        groups[name] = whole
+    return groups
+
+
+def changed_in(nodes):
+    """The names of what is changed in place: by an item, or by a method that changes a list."""
+    names = set()
+    for node in nodes:
+        for part in ast.walk(node):
+            if isinstance(part, ast.Subscript) and isinstance(part.ctx, ast.Store):
+                names |= sources_of(part.value)
+            if isinstance(part, ast.Call) and isinstance(part.func, ast.Attribute) and part.func.attr in CHANGING:
+                names |= sources_of(part.func.value)
+    return names
+
+
+def check_loops(path, function):
+    """What a loop goes over has no name by which the loop changes a list."""
+    groups = groups_in(function)
+    for node in ast.walk(function):
+        if isinstance(node, ast.For):
+            changed = changed_in(node.body)
+            for name in walked_names(node.iter):
+                if groups.get(name, {name}) & changed:
+                    tell(path, node, f"the loop changes what it goes over: {name}")
 
 
 def at_once(node, parent):

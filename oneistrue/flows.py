@@ -17,7 +17,7 @@ def way_between(amounts, starts, goals):
     ways = [(start,) for start in starts]
     while len(ways) > 0:
         longer = []
-        for way in ways:
+        for way in list(ways):
             if way[-1] in goals:
                 return way
             for there in steps_from(amounts, way[-1]):
