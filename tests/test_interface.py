@@ -71,6 +71,23 @@ saddles: is_saddle(court, hearing, here, plea, reply), first_worth(court, hearin
 saddles: first_open(court, hearing)
 showings: shown_award(court, dealing, sight, plea, counter), shown_mean(court, dealing, here, side, shown)
 unseen: unseen_worth(rows)
+treechecker: lets_tree(court, thing), is_tree(court, thing)
+treeworths: tree_worth(court, tree, here), tree_table(court, tree), option_of(court, tree, here)
+treeends: ends_of(court, tree, here), tree_wrong(court, tree)
+treemaking: tree_for(court, table), many_ends(tree)
+rulechecker: lets_rule(court, thing), is_rule(court, thing), rule_award(court, rule, sight, shown, counter)
+ruleplays: showings_of(holding), rule_worth(court, rule, side, here), rule_table(court, rule, side)
+ruleplays: first_showing(court, rule, side, here)
+rulemending: low_rule(court, table), cut_award(court, rule, table, sight, shown, counter)
+rulemending: first_harm(court, rule, side)
+badpairs: bad_pairs(court), is_right(court), first_bad(court)
+sheets: is_sheet(court, thing), opened(court, sheet, facts), tells_apart(court, sheet, facts, here, there)
+fewest: open_pair(court, sheet, facts), fewest_facts(court, sheet), fewest_paper(court, sheet)
+fewest: lets_fewest(court, sheet, thing)
+cheapest: cheapest_facts(court, sheet, costs)
+helps: opening_help(court, sheet, facts), exhibit_help(court, side, exhibit), sight_help(court), best_fact(court, sheet)
+givings: with_new(court, side, grades), new_help(court, side, grades), first_cut(court, dealing, side, grades)
+givings: grade_change(court, side, here, exhibit, grade)
 """
 
 CLASSES = {
@@ -87,6 +104,9 @@ CLASSES = {
     },
     ("hearingclasses", "Hearing", ("court", "hearing")): {
         "__call__": ["plea", "reply"], "mean": ["here"], "belief": ["plea", "reply"], "swapped": [],
+    },
+    ("ruleclasses", "Rule", ("court", "rule")): {
+        "__call__": ["sight", "shown", "counter"], "worths": ["side"], "bounded": ["side", "sight", "shown", "counter"],
     },
 }
 
