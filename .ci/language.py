@@ -79,7 +79,7 @@ def check_module(path, tree):
 
 
 def assigned_in(function):
-    names = [arg.arg for arg in function.args.args]
+    names = [arg.arg for arg in function.args.args + function.args.kwonlyargs]
     names += [node.id for node in ast.walk(function) if isinstance(node, ast.Name) and isinstance(node.ctx, ast.Store)]
     return names
 
@@ -90,8 +90,10 @@ def check_function(path, node, imports, classes):
     if any(ast.unparse(part) != "property" for part in node.decorator_list):
         tell(path, node, "a decorator")
     args = node.args
-    if args.vararg or args.kwarg or args.kwonlyargs or args.posonlyargs or args.defaults or node.returns:
+    if args.vararg or args.kwarg or args.posonlyargs or args.defaults or any(args.kw_defaults) or node.returns:
         tell(path, node, "parameters")
+    if args.kwonlyargs and (node.name in METHODS or node.name.startswith("__")):
+        tell(path, node, "parameters by name alone")
     if node.name.startswith("__") and node.name not in DUNDERS:
         tell(path, node, "a method's name")
     for name in assigned_in(node):
@@ -115,7 +117,7 @@ def check_comprehensions(path, function):
     kinds = (ast.ListComp, ast.SetComp, ast.DictComp)
     comps = [node for node in ast.walk(function) if isinstance(node, kinds)]
     own = {id(part) for comp in comps for part in ast.walk(comp)}
-    outer = {arg.arg for arg in function.args.args} | {
+    outer = {arg.arg for arg in function.args.args + function.args.kwonlyargs} | {
         node.id for node in ast.walk(function)
         if isinstance(node, ast.Name) and isinstance(node.ctx, ast.Store) and id(node) not in own
     }
@@ -233,7 +235,7 @@ def check_node(path, node, parent, own):
         tell(path, node, "a set")
     if isinstance(node, ast.Call):
         check_call(path, node, parent, own)
-    if isinstance(node, ast.Raise):
+    if isinstance(node, ast.Raise) and not (node.exc is None and isinstance(parent, ast.ExceptHandler)):
         call = node.exc
         if not (isinstance(call, ast.Call) and isinstance(call.func, ast.Name) and call.func.id in own["errors"]):
             tell(path, node, "raise")

@@ -2,6 +2,7 @@
 
 import ast
 import importlib
+import pathlib
 import re
 
 from oneistrue.errors import CourtError
@@ -194,6 +195,42 @@ EXAMPLES = """
     (True, (3, 2), (0, 2))
     >>> grade_change(PAIR, 0, 1, 0, 2), first_cut(COIN, GIVEN, 0, (1, 1, 1))
     ((-1, 2), None)
+    >>> STAIR = ((1, (0, 1), (1, 1), ((2,), ()), 0), (1, (3, 1), (1, 1), ((1,), ()), 0), (1, (1, 1), (1, 1), ((0,), ()), 0))
+    >>> right_span(COIN, 0), right_span(COIN, 2)
+    ((((-3, 1), True), ((3, 2), True)), (((0, 1), True), None))
+    >>> right_span(STAIR, 2), weight_span(STAIR, 1)
+    ((None, ((3, 2), False)), (((1, 2), False), None))
+    >>> in_span((None, ((3, 2), False)), (3, 2)), in_span((None, None), (-7, 1))
+    (False, True)
+    >>> same_pools(PAIR, COPY), pool_table(STAIR, ((0, 1), (2,)))
+    (False, ((3, 2), (3, 2), (1, 1)))
+    >>> PAID = ((0, 1, (1, 2)),)
+    >>> first_break(PAIR, PAID, COPY), first_break(PAIR, PAID, COIN), stays(PAIR, PAID, PAIR)
+    (('dispute', 0, 1), ('size',), True)
+    >>> first_break(SEEN, (), (SEEN[0], SEEN[0]))
+    ('fall', 0, 1)
+    >>> film = Help(COIN, FILM)
+    >>> film.bad, film.fewest, len(film), film.gain((1,)), film.cheapest((4, 1))
+    (((0, 2), (1, 2)), (0, 1), 2, (3, 2), (5, (0, 1)))
+    >>> told_by(((1, 2), (0, 1), (1, 2)), (1, 2)), dice_counts(((1, 2), (1, 2)), 3)
+    (2, (2, 1))
+    >>> letter(PAIR, hearing_of(PAIR, dealing_of(PAIR)), 1, 1, 0)
+    'To the defendant.\\nYou told case 0, the claimant told case 1.\\nYou pay 1/2.\\nBelief: 0 1/2, 1 1/2.'
+    >>> desk = LiveDesk(PAIR)
+    >>> desk.hear(0, (0, 1), (1, 3)), desk.set_right(0, (1, 1)), desk.set_sight(1, 4)
+    ((0, 1, 0, (1, 2), (1, 4)), ((1, 1), (1, 1)), ((1, 1), (1, 1)))
+    >>> desk.set_weight(2, 1)
+    InvalidEvent: (("weight", 2, 1), "case")
+    >>> desk.undo(2), desk.kept_deals
+    ((('right', 0, (1, 1)), ('sight', 1, 4)), 0)
+    >>> lies_in(desk.files), tally_of(PAIR, desk.files), awards_of(PAIR, desk.files)
+    ((1, 0), (1, 0), ((1, 2), (0, 1)))
+    >>> log_text((("hear", 0, (0, 1), (1, 3)), ("grade", 0, 1, 0, 2)))
+    'hear 0 0/1 1/3\\ngrade 0 1 0 2'
+    >>> read_log("sight 0 1\\nhear 0 0/1 1/1")
+    InvalidText: (1, 3)
+    >>> desk_answers("1 0/1 1,1 1 - 0\\n1 1/1 1,1 0 - 0\\n\\nhear 0 0/1 1/2\\nsight 1 3\\nlies\\nweight 2 1\\nundo 1\\ntable")
+    '1 0 1/2 1/4\\n0/1 1/1\\n1 0\\nrefused case\\nundone 1\\n1/2 1/2'
 """
 
 
@@ -231,3 +268,16 @@ class ExamplesTest(Case):
                 continue
             with self.subTest(source=source):
                 self.assertEqual(run(source, names), normal(rows[at + 1]))
+
+    def test_all_examples(self):
+        """Each example of the document stands above, where the document is there to be read."""
+        document = pathlib.Path(__file__).resolve().parents[2] / "shared" / "DOC.md"
+        if document.exists():
+            ours = [row.strip() for row in EXAMPLES.strip().split("\n")]
+            theirs = [row.strip() for row in document.read_text("utf-8").split("\n")]
+            self.assertEqual([row for row in theirs if row.startswith(">>> ") and row not in ours], [])
+            for at, row in enumerate(theirs):
+                if row.startswith(">>> ") and theirs[at + 1] and not theirs[at + 1].startswith(">>> "):
+                    told = theirs[at + 1].replace("raises ", "")
+                    told = re.sub(r"^(\w+)\(", r"\1: (", told)
+                    self.assertEqual(ours[ours.index(row) + 1], told)

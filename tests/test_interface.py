@@ -2,6 +2,8 @@
 
 import importlib
 import inspect
+import pathlib
+import re
 
 from tests.support import Case
 
@@ -88,6 +90,18 @@ cheapest: cheapest_facts(court, sheet, costs)
 helps: opening_help(court, sheet, facts), exhibit_help(court, side, exhibit), sight_help(court), best_fact(court, sheet)
 givings: with_new(court, side, grades), new_help(court, side, grades), first_cut(court, dealing, side, grades)
 givings: grade_change(court, side, here, exhibit, grade)
+spans: right_span(court, here), weight_span(court, here), in_span(span, award)
+poolmoves: same_pools(court, other), pool_table(court, lots)
+edits: first_break(court, dealing, other), stays(court, dealing, other)
+dice: is_die(thing), told_by(row, die), dice_counts(row, many)
+letters: letter(court, hearing, side, plea, reply)
+liveevents: is_event(thing), refusal_of(court, event)
+ledgers: paid_of(files), wrong_in(files), lies_in(files)
+tallies: tally_of(court, files), awards_of(court, files)
+replaying: replayed(court, log)
+eventtexts: event_line(event), log_text(log)
+eventreadings: read_event(text), read_log(text)
+desk: desk_answers(text)
 """
 
 CLASSES = {
@@ -105,9 +119,31 @@ CLASSES = {
     ("hearingclasses", "Hearing", ("court", "hearing")): {
         "__call__": ["plea", "reply"], "mean": ["here"], "belief": ["plea", "reply"], "swapped": [],
     },
+    ("helpclasses", "Help", ("court", "sheet")): {"seen": ["facts"], "gain": ["facts"], "cheapest": ["costs"]},
+    ("live", "LiveDesk", ("court",)): {
+        "go": ["event"], "hear": ["here", "ours", "theirs"], "set_weight": ["here", "weight"], "set_right": ["here", "right"],
+        "set_grade": ["side", "here", "exhibit", "grade"], "set_sight": ["here", "sight"], "tried": ["event"],
+        "undo": ["steps"], "do_all": ["events", "keep"],
+    },
     ("ruleclasses", "Rule", ("court", "rule")): {
         "__call__": ["sight", "shown", "counter"], "worths": ["side"], "bounded": ["side", "sight", "shown", "counter"],
     },
+}
+
+PROPERTIES = {
+    "Court": ("inner", "weights", "rights", "as_text"), "Order": ("inner", "pairs", "classes", "ties"),
+    "Table": ("inner", "pulls", "wrong", "rises"), "Deal": ("inner", "disputes", "wrongs"),
+    "Hearing": ("inner", "gives", "true_sides", "is_fair"), "Rule": ("inner", "rows_in", "fallback_award"),
+    "Help": ("inner", "bad", "fewest", "spans_of_rights"),
+    "LiveDesk": ("court_now", "table_now", "dealing_now", "hearing_now", "files", "log", "kept_deals"),
+}
+# What the interface says of len, in, [..], == and +, each in the class itself.
+SIGNS = {
+    "Court": ("__len__", "__iter__", "__contains__", "__eq__", "__getitem__", "__add__"),
+    "Order": ("__len__", "__contains__", "__eq__"), "Table": ("__len__", "__iter__", "__getitem__", "__eq__"),
+    "Deal": ("__len__", "__iter__", "__contains__", "__eq__", "__add__", "__call__"),
+    "Hearing": ("__len__", "__eq__", "__call__"), "Rule": ("__len__", "__eq__", "__call__"), "Help": ("__len__", "__eq__"),
+    "LiveDesk": (),
 }
 
 
@@ -137,3 +173,21 @@ class InterfaceTest(Case):
             for method, parameters in methods.items():
                 self.assertIn(method, vars(kind))
                 self.assertEqual(list(inspect.signature(vars(kind)[method]).parameters), ["self"] + parameters)
+            for prop in PROPERTIES[name]:
+                self.assertIsInstance(vars(kind)[prop], property)
+            for sign in SIGNS[name]:
+                self.assertTrue(inspect.isfunction(vars(kind)[sign]))
+            self.assertEqual(kind.__bases__, (object,))
+
+    def test_the_whole_list(self):
+        """Each name of the headings of the document, where it is there to be read."""
+        document = pathlib.Path(__file__).resolve().parents[2] / "shared" / "DOC.md"
+        if not document.exists():
+            return
+        named = set()
+        for heading in re.findall("^### (.*)$", document.read_text("utf-8"), re.M):
+            module = re.search(r"\(module (\w+)\)", heading)
+            if module:
+                # Classes begin with a great letter.
+                named |= {(module[1], name) for name in re.findall(r"(\w+)\(", heading) if name[0].islower()}
+        self.assertEqual(named, {(module, name) for module, name, _ in listed()})
