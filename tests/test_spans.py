@@ -125,6 +125,11 @@ class SpansTest(Case):
         self.same(right_span(calm, 0), (((1, 1), False), None))
         self.same(right_span(calm, 1), (None, ((2, 1), False)))
         self.same(weight_span(calm, 0), (((0, 1), False), None))
+        # The factor is that of the side on which the right award then is.
+        tower = ((1, (1, 1), (1, 1), ((2,), ()), 0),) + ((1, (0, 1), (1, 1), ((1,), ()), 0), (1, (1, 1), (2, 3), ((0,), ()), 0))
+        self.same(best_table(tower), ((1, 1), (3, 4), (3, 4)))
+        self.same(right_span(tower, 2), (((0, 1), True), ((4, 3), False)))
+        self.same(right_span(tower, 1), (None, ((1, 1), False)))
         # Cases that are alike stay one pool, whatever their right awards.
         self.same(right_span(FOUR, 0), (None, None))
         self.same(weight_span(FOUR, 0), (((0, 1), False), None))

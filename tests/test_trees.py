@@ -219,6 +219,8 @@ def bad_parts(court):
     wrong += [("unseen", (bare,), (other, bad), rows) for bad in wrong_showings(len(other))]
     wrong += [good[:3] + (bad,) for bad in (None, (), [], (("end", END, END),), (END, END), rows + rows, ((END,),), ((END,) * 3,), [(END, END)])]
     wrong += [good[:3] + (bad,) for bad in (([END, END],), (None,), rows + (END,))]
+    tall = ("unseen", (bare, bare), (other, other))
+    wrong += [tall + (bad,) for bad in ((rows[0], (END,)), ((END,), rows[0]), (rows[0], None), (rows[0], [END, END]), (rows[0], ()))]
     return wrong
 
 
@@ -513,11 +515,13 @@ class MakingTest(Case):
     def test_the_greatest_ones(self):
         ladder = tuple((1, (at, 1), (1, 1), ((at, 6 - at, 1), (1 + at, 7 - at)), 0) for at in range(6))
         steps = tuple((1, (at, 1), (1, 1), ((3, at + 1), (3, 7 - at)), 0) for at in range(6))
-        for court in (ladder, steps):
+        apart = tuple(case[:4] + (at & 1,) for at, case in enumerate(ladder))
+        for court in (ladder, steps, apart, tuple(case[:4] + (at // 2,) for at, case in enumerate(steps))):
             for table in (best_table(court), rising_table(random.Random(3), court)):
                 tree = tree_for(court, table)
                 self.same(tree_table(court, tree), table)
-                self.assertLessEqual((lets_tree(court, tree), deepness(tree)), (64, 3))
+                self.assertLessEqual(lets_tree(court, tree), 64)
+                self.assertLessEqual(deepness(tree), 3)
 
     def test_refusals(self):
         for court in (PAIR, SEEN, MIXED):
