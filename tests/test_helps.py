@@ -23,7 +23,7 @@ GIVEN = ((0, 2, (1, 1)), (1, 2, (1, 1)))
 
 
 def least(court):
-    """The least wrong, by (G6): over the disputes of a dealing, told from the best table by the definition."""
+    """The wrong of the best table, by the definition; a dealing proves that it is the least one."""
     best = best_table(court)
     assert support.is_dealing(court, best, dealing_of(court))
     return support.wrong(court, [value(award) for award in best])

@@ -264,9 +264,12 @@ class EditsTest(Case):
                     self.same(stays(court, dealing, other), expected is None)
                     self.same(stays(other=other, dealing=dealing, court=court), expected is None)
                     self.check_consequence(court, dealing, other, expected is None)
-                    told.add(None if expected is None else (expected[0], expected[-1] in (0, "size")))
-        words = {(word, first) for word in ("fall", "dispute", "pull") for first in (True, False)}
-        self.assertTrue(words | {None, ("size", True)} <= told | {("fall", True), ("dispute", True)}, told)
+                    told.add(expected)
+        self.assertTrue({None, ("size",)} <= told)
+        for word in ("fall", "dispute", "pull"):
+            # At the first place, and at many others.
+            places = {one[1] for one in told if one and one[0] == word}
+            self.assertTrue({0, 1, 2, 3} <= places, (word, places))
 
     def check_consequence(self, court, dealing, other, expected):
         """[82], the last one: it stays exactly if best table and dealing are those of the other court, too."""
